@@ -1,0 +1,59 @@
+"""What the tests share: strict likeness, and calls by place and by name."""
+
+import copy
+import unittest
+
+from veiledchains.errors import BadLog, ChainError, NoRank, Unfit
+
+NOT_STRINGS = [
+    None, True, False, 0, 1, -1, 10 ** 399, (), ("1",), ("1", "2"), [], ["1"], {}, {"1": 1}, {(1, "a"): None},
+    ((), [{}]), Unfit(), NoRank([1]), BadLog(place=-1),
+]
+
+
+def same(one, other):
+    """Whether both are alike, kind by kind: True is not 1 here."""
+    if type(one) is not type(other):
+        return False
+    if isinstance(one, (list, tuple)):
+        return len(one) == len(other) and all(map(same, one, other))
+    if isinstance(one, dict):
+        return same(list(one.items()), list(other.items()))
+    if isinstance(one, ChainError):
+        return same(vars(one), vars(other))
+    return one == other
+
+
+def shown(value):
+    text = repr(value) if not isinstance(value, int) or abs(value) < 10 ** 1000 else "a great integer"
+    return text if len(text) < 300 else text[:300] + ".."
+
+
+class Calls(unittest.TestCase):
+    """Calls by place and by name, each twice; what is handed in has to stay as it was.
+
+    The names are handed in in the order in which the document tells them.
+    """
+
+    def outcomes(self, function, given):
+        held = copy.deepcopy(given)
+        for places in (len(given), 0, 1, len(given), 0):
+            by_place = list(given.values())[:places]
+            by_name = dict(list(given.items())[places:])
+            try:
+                yield function(*by_place, **by_name)
+            except ChainError as error:
+                yield error
+            if not same(held, given):
+                self.fail(f"{function.__name__} changed what it was handed")
+
+    def tells(self, wanted, function, **given):
+        for told in self.outcomes(function, given):
+            if not same(told, wanted):
+                handed = {name: shown(value) for name, value in given.items()}
+                self.fail(f"{function.__name__} {handed}: {shown(told)}, not {shown(wanted)}")
+
+    def refuses(self, error, function, **given):
+        """The very class of error, with the very fields."""
+        self.assertIsInstance(error, ChainError)
+        self.tells(error, function, **given)

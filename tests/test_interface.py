@@ -1,0 +1,30 @@
+"""The names of the interface stand in their files, with the told arguments."""
+
+import importlib
+import inspect
+import unittest
+
+TOLD = {
+    "fractions": {
+        "lowest": "a b", "added": "one other", "multiplied": "one other", "divided": "one other",
+        "compared": "one other", "fraction_text": "fraction", "read_fraction": "value",
+    },
+}
+
+
+class Interface(unittest.TestCase):
+    def test_functions(self):
+        for name, functions in TOLD.items():
+            module = importlib.import_module("veiledchains." + name)
+            for function, arguments in functions.items():
+                found = getattr(module, function)
+                self.assertTrue(inspect.isfunction(found), function)
+                self.assertEqual(found.__module__, module.__name__, function)
+                parameters = inspect.signature(found).parameters.values()
+                self.assertEqual([one.name for one in parameters], arguments.split(), function)
+                self.assertEqual({one.kind for one in parameters}, {inspect.Parameter.POSITIONAL_OR_KEYWORD}, function)
+                self.assertEqual({one.default for one in parameters}, {inspect.Parameter.empty}, function)
+
+
+if __name__ == "__main__":
+    unittest.main()

@@ -1,0 +1,1 @@
+"""Veiledchains: hidden chains, in whole numbers and exact fractions."""
