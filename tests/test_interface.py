@@ -9,6 +9,16 @@ TOLD = {
         "lowest": "a b", "added": "one other", "multiplied": "one other", "divided": "one other",
         "compared": "one other", "fraction_text": "fraction", "read_fraction": "value",
     },
+    "chains": {
+        "chain_error": "value", "plain": "chain", "start_share": "chain state", "step_share": "chain one other",
+        "tell_share": "chain state sign",
+    },
+    "chaintexts": {"chain_text": "chain", "read_chain": "value"},
+    "views": {"view_error": "chain value", "course_error": "chain view value"},
+    "courses": {
+        "course_chance": "chain view course", "chance": "chain view", "possible_count": "chain view",
+        "course_at": "chain view number",
+    },
 }
 
 
