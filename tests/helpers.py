@@ -30,16 +30,17 @@ def shown(value):
 
 
 class Calls(unittest.TestCase):
-    """Calls by place and by name, each twice; what is handed in has to stay as it was.
+    """Calls by place and by name, in any order, and again; what is handed in has to stay as it was.
 
     The names are handed in in the order in which the document tells them.
     """
 
     def outcomes(self, function, given):
         held = copy.deepcopy(given)
-        for places in (len(given), 0, 1, len(given), 0):
-            by_place = list(given.values())[:places]
-            by_name = dict(list(given.items())[places:])
+        names = list(given)
+        for places, named in ((len(names), []), (0, names), (1, names[1:]), (0, names[::-1]), (len(names), [])):
+            by_place = [given[name] for name in names[:places]]
+            by_name = {name: given[name] for name in named}
             try:
                 yield function(*by_place, **by_name)
             except ChainError as error:
@@ -52,6 +53,12 @@ class Calls(unittest.TestCase):
             if not same(told, wanted):
                 handed = {name: shown(value) for name, value in given.items()}
                 self.fail(f"{function.__name__} {handed}: {shown(told)}, not {shown(wanted)}")
+
+    def tells_again(self, function, asked):
+        """Each of the calls tells the same again, with calls of the others between."""
+        first = [list(self.outcomes(function, given))[0] for given in asked]
+        for given, told in reversed(list(zip(asked, first))):
+            self.tells(told, function, **given)
 
     def refuses(self, error, function, **given):
         """The very class of error, with the very fields."""

@@ -9,6 +9,11 @@ FAIR = ("ab", (1, 1), ((2, 1), (1, 3)), ((3, 1), (1, 1)))
 RING = ("ab", (1, 0), ((0, 1), (1, 1)), ((1, 0), (1, 1)))
 ONE = ("z", (7,), ((2,),), ((1,),))
 GREAT = 10 ** 399
+TWIN = ("ab", (2, 1, 1), ((2, 1, 1), (0, 1, 1), (0, 0, 1)), ((1, 0), (1, 3), (1, 3)))
+EVEN = ("ab", (1, 1), ((1, 1), (1, 1)), ((3, 1), (3, 1)))
+STILL = ("ab", (1,), ((1,),), ((1, 0),))
+HOP = ("ab", (1, 1), ((1, 1), (1, 0)), ((1, 0), (0, 1)))
+SIX = ("abcde", (1,) * 6, ((1, 2, 3, 4, 5, 6),) * 6, ((5, 4, 3, 2, 1),) * 6)
 
 
 def some_line(source, width, figures):
@@ -31,6 +36,12 @@ def some_chains(figures=1):
     """Of each number of states with each number of signs."""
     source = random.Random(figures)
     return [some_chain(source, states, signs, figures) for states in range(1, 7) for signs in range(1, 6)]
+
+
+def small_chains():
+    """Those whose short views and their courses can be gone through."""
+    drawn = [chain for chain in some_chains() if len(chain[1]) <= 3 and len(chain[0]) <= 3]
+    return [WORN, FAIR, RING, ONE, TWIN, EVEN, STILL, HOP] + drawn
 
 
 def multiplied(chain):
@@ -57,14 +68,18 @@ def part(line, place):
     return fractions.Fraction(line[place], sum(line))
 
 
+def told_part(chain, state, sign):
+    """The share of a sign at a state, 1 for a gap."""
+    return fractions.Fraction(1) if sign == "." else part(chain[3][state], chain[0].index(sign))
+
+
 def weighed(chain, view, course):
     """The chance of a course, as a Fraction."""
-    signs, start, steps, tells = chain
+    _, start, steps, _ = chain
     worth = fractions.Fraction(1)
     for place, state in enumerate(course):
         worth *= part(steps[course[place - 1]], state) if place else part(start, state)
-        if view[place] != ".":
-            worth *= part(tells[state], signs.index(view[place]))
+        worth *= told_part(chain, state, view[place])
     return worth
 
 
@@ -74,18 +89,43 @@ def courses(chain, view):
 
 def summed(chain, view):
     """The chance of a view, as a Fraction, from its end to its beginning."""
-    signs, start, steps, tells = chain
+    _, start, steps, _ = chain
     states = range(len(start))
     behind = [fractions.Fraction(1) for _ in states]
     for place in reversed(range(len(view))):
         here = []
         for state in states:
-            sign = view[place]
-            told = fractions.Fraction(1) if sign == "." else part(tells[state], signs.index(sign))
-            here.append(told * behind[state])
+            here.append(told_part(chain, state, view[place]) * behind[state])
         lines = steps if place else [start]
         behind = [sum(part(line, state) * here[state] for state in states) for line in lines]
     return behind[0]
+
+
+def ahead_worths(chain, view):
+    """For each place, by state: the chances up to it, as Fractions, from place to place."""
+    _, start, steps, _ = chain
+    states = range(len(start))
+    table = []
+    for sign in view:
+        if table:
+            come = [sum(worth * part(line, state) for worth, line in zip(table[-1], steps)) for state in states]
+        else:
+            come = [part(start, state) for state in states]
+        table.append([come[state] * told_part(chain, state, sign) for state in states])
+    return table
+
+
+def behind_worths(chain, view):
+    """For each place, by state: the shares of the ways on, as Fractions, from the last place on."""
+    states = range(len(chain[1]))
+    table = []
+    for place in reversed(range(len(view))):
+        if table:
+            told = [told_part(chain, state, view[place + 1]) * table[-1][state] for state in states]
+            table.append([sum(part(line, state) * told[state] for state in states) for line in chain[2]])
+        else:
+            table.append([fractions.Fraction(1) for _ in states])
+    return table[::-1]
 
 
 def short_views(chain, longest):

@@ -4,16 +4,15 @@ import random
 
 from helpers import Calls
 from samples import (
-    FAIR, GREAT, ONE, RING, WORN, courses, multiplied, pair, ratio, short_views, some_chain, some_chains, some_view,
-    summed, weighed,
+    FAIR, GREAT, ONE, RING, SIX, WORN, courses, multiplied, pair, ratio, short_views, small_chains, some_chain,
+    some_chains, some_view, summed, weighed,
 )
 
 from veiledchains.chains import plain
 from veiledchains.courses import chance, course_at, course_chance, possible_count
 from veiledchains.errors import NoRank, Unfit
 
-SMALL = [WORN, FAIR, RING, ONE] + [chain for chain in some_chains() if len(chain[1]) <= 3 and len(chain[0]) <= 3]
-SIX = ("abcde", (1,) * 6, ((1, 2, 3, 4, 5, 6),) * 6, ((5, 4, 3, 2, 1),) * 6)
+SMALL = small_chains()
 NO_NUMBERS = [
     True, False, None, "", "0", "1", (), (0,), (0, 0), [], [0], [[1]], {}, {0: 0}, -1, -2, -(10 ** 399), 10 ** 399, Unfit(),
 ]

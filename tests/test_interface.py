@@ -19,6 +19,16 @@ TOLD = {
         "course_chance": "chain view course", "chance": "chain view", "possible_count": "chain view",
         "course_at": "chain view number",
     },
+    "along": {
+        "ahead_table": "chain view", "behind_table": "chain view", "states_told": "chain view",
+        "pairs_told": "chain view", "likeliest_states": "chain view", "told_ahead": "chain view sign",
+    },
+    "best": {
+        "best_course": "chain view", "best_count": "chain view", "ranked": "chain view number",
+        "best_through": "chain view place state",
+    },
+    "prices": {"prices_bound": "chain view value", "prices": "chain view"},
+    "rows": {"rows_ahead": "chain row", "row_at": "chain length share", "never_row": "chain"},
 }
 
 

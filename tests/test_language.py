@@ -44,6 +44,18 @@ def module_names(tree):
     return names
 
 
+def own_methods(trees):
+    """The names of the package's own methods; none of them may be one of builtin values."""
+    found = set()
+    for tree in trees:
+        for node in tree.body:
+            if isinstance(node, ast.ClassDef):
+                found |= {one.name for one in node.body if isinstance(one, ast.FunctionDef)}
+    builtin = {name for kind in (str, int, list, dict, set, bytes, tuple) for name in dir(kind)} - {"__init__"}
+    assert not found & builtin, found & builtin
+    return found
+
+
 class Language(unittest.TestCase):
     def trees(self):
         for path in FILES:
@@ -94,6 +106,7 @@ class Language(unittest.TestCase):
                 self.assertNotIn(name, vars(builtins), place)
 
     def test_statements_and_calls(self):
+        own = own_methods([tree for _, tree in self.trees()])
         for place, node in self.nodes():
             if isinstance(node, ast.stmt):
                 self.assertIsInstance(node, STATEMENTS, place)
@@ -103,7 +116,7 @@ class Language(unittest.TestCase):
             if isinstance(node, ast.Name) and node.id in vars(builtins):
                 self.assertIn(node.id, BUILTINS, place)
             if isinstance(node, ast.Call) and isinstance(node.func, ast.Attribute):
-                self.assertIn(node.func.attr, METHODS, place)
+                self.assertIn(node.func.attr, METHODS | own, place)
 
 
 if __name__ == "__main__":

@@ -4,6 +4,7 @@ from veiledchains.errors import NoRank
 from veiledchains.evened import evened
 from veiledchains.fractions import lowest
 from veiledchains.kinds import is_whole
+from veiledchains.parts import ahead_parts, whole
 from veiledchains.views import GAP
 
 
@@ -25,29 +26,10 @@ def course_chance(chain, view, course):
 
 def chance(chain, view):
     """The sum of the chances of all courses of view."""
-    # Even lines have one sum: so all states have parts of one denominator, and only the end needs a common divisor.
-    signs, start, steps, tells = evened(chain)
-    parts = start
-    below = sum(start)
-    for place, sign in enumerate(view):
-        if place > 0:
-            parts = _gone_on(parts, steps)
-            below = below * sum(steps[0])
-        if sign != GAP:
-            parts = _told(parts, tells, signs.index(sign))
-            below = below * sum(tells[0])
-    return lowest(sum(parts), below)
-
-
-def _gone_on(parts, steps):
-    """The parts by the state at the next place, from those by the state here."""
-    columns = range(len(parts))
-    return [sum([part * line[state] for part, line in zip(parts, steps)]) for state in columns]
-
-
-def _told(parts, tells, at):
-    """The parts that are left behind the sign that stands at this place of the lines."""
-    return [part * line[at] for part, line in zip(parts, tells)]
+    even = evened(chain)
+    if view == "":
+        return (1, 1)
+    return lowest(sum(ahead_parts(even, view)[-1]), whole(even, view))
 
 
 def possible_count(chain, view):
