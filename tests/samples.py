@@ -44,6 +44,29 @@ def small_chains():
     return [WORN, FAIR, RING, ONE, TWIN, EVEN, STILL, HOP] + drawn
 
 
+def some_machine(source, signs, stands):
+    """Some of its stands may never be come to, and ends may be none or all of them."""
+    steps = tuple(tuple(source.randrange(stands) for _ in signs) for _ in range(stands))
+    share = source.choice((0, 1, 2, 2, 2, 3, 4))
+    ends = tuple(stand for stand in range(stands) if source.randrange(4) < share)
+    return (signs, source.randrange(stands), steps, ends)
+
+
+def walked(machine, row):
+    """Whether a machine takes a row."""
+    signs, stand, steps, ends = machine
+    for sign in row:
+        stand = dict(zip(signs, steps[stand]))[sign]
+    return any(stand == end for end in ends)
+
+
+def rows_to(signs, longest):
+    """All rows up to a length, shorter ones first."""
+    for length in range(longest + 1):
+        for row in itertools.product(signs, repeat=length):
+            yield "".join(row)
+
+
 def multiplied(chain):
     """The same shares, with each line multiplied by another factor."""
     factors = itertools.count(2)
@@ -136,3 +159,60 @@ def short_views(chain, longest):
 
 def some_view(source, chain, length, gaps=1):
     return "".join(source.choice(chain[0] + "." * gaps) for _ in range(length))
+
+
+def solved(equations):
+    """The solution of linear equations, as Fractions; each is a list of factors and behind them their sum."""
+    rows = [[fractions.Fraction(number) for number in row] for row in equations]
+    for column in range(len(rows)):
+        lead = next(at for at in range(column, len(rows)) if rows[at][column])
+        rows[column], rows[lead] = rows[lead], rows[column]
+        rows[column] = [number / rows[column][column] for number in rows[column]]
+        for at, row in enumerate(rows):
+            if at != column and row[column]:
+                rows[at] = [one - row[column] * other for one, other in zip(row, rows[column])]
+    return [row[-1] for row in rows]
+
+
+def told_pairs(chain, machine):
+    """For each pair of a state and a stand: the pairs behind one sign, with their shares as Fractions."""
+    signs, _, steps, tells = chain
+    states = range(len(chain[1]))
+    led = {}
+    for state, stand in itertools.product(states, range(len(machine[2]))):
+        led[state, stand] = [
+            ((other, machine[2][stand][at]), part(tells[state], at) * part(steps[state], other))
+            for at in range(len(signs)) for other in states if tells[state][at] and steps[state][other]]
+    return led
+
+
+def ever_and_mean(chain, machine):
+    """The share of what is taken some time, and the mean number of signs (None where the share is below 1)."""
+    ends, led = machine[3], told_pairs(chain, machine)
+    begun = {(state, machine[1]): part(chain[1], state) for state in range(len(chain[1])) if chain[1][state]}
+    reached = list(begun)
+    for pair_ in reached:
+        if pair_[1] not in ends:
+            reached += [other for other in dict(led[pair_]) if other not in reached]
+    hope = {pair_ for pair_ in led if pair_[1] in ends}
+    for _ in led:
+        hope |= {pair_ for pair_ in led if any(other in hope for other, _ in led[pair_])}
+
+    def mean_of(told, more):
+        rows = []
+        for pair_ in told:
+            row = [fractions.Fraction(int(other == pair_)) for other in told]
+            for other, share in led[pair_]:
+                if other in told:
+                    row[told.index(other)] -= share
+            rows.append(row + [more(pair_)])
+        found = dict(zip(told, solved(rows)))
+        return lambda pair_: found.get(pair_, fractions.Fraction(0))
+
+    inner = [pair_ for pair_ in reached if pair_ in hope and pair_[1] not in ends]
+    worth = mean_of(inner, lambda pair_: sum(share for other, share in led[pair_] if other[1] in ends))
+    ever = sum(share * (1 if pair_[1] in ends else worth(pair_)) for pair_, share in begun.items())
+    if ever != 1:
+        return ever, None
+    worth = mean_of(inner, lambda _: fractions.Fraction(1))
+    return ever, sum(share * worth(pair_) for pair_, share in begun.items())

@@ -28,6 +28,23 @@ TOLD = {
         "best_through": "chain view place state",
     },
     "prices": {"prices_bound": "chain view value", "prices": "chain view"},
+    "words": {
+        "meets": "chain word length", "first_ends": "chain word length", "sure_word": "chain word",
+        "mean_wait": "chain word",
+    },
+    "alike": {
+        "onward": "chain row", "alike": "one other", "kept_words": "one other", "account": "one other",
+        "account_error": "one other value", "alike_by": "one other value",
+    },
+    "machines": {
+        "machine_error": "value", "taken": "machine row", "least_machine": "machine", "turned": "machine",
+        "both": "one other", "either": "one other", "word_machine": "signs word", "alike_machines": "one other",
+    },
+    "worlds": {
+        "taken_share": "chain machine length", "first_taken": "chain machine length",
+        "taken_states": "chain machine view", "best_taken": "chain machine view", "ever_share": "chain machine",
+        "mean_taken": "chain machine",
+    },
     "rows": {"rows_ahead": "chain row", "row_at": "chain length share", "never_row": "chain"},
 }
 

@@ -101,6 +101,10 @@ class Language(unittest.TestCase):
                 if isinstance(node, ast.ImportFrom):
                     names += [alias.name for alias in node.names]
             self.assertEqual(len(names), len(set(names)), path)
+            above = {alias.name for node in tree.body if isinstance(node, ast.ImportFrom) for alias in node.names}
+            above |= {node.name for node in tree.body if isinstance(node, ast.ClassDef)}
+            inner = [name for node in ast.walk(tree) if isinstance(node, (ast.arg, ast.Name)) for name in bound_names(node)]
+            self.assertEqual(above & set(inner), set(), path)
         for place, node in self.nodes():
             for name in bound_names(node):
                 self.assertNotIn(name, vars(builtins), place)

@@ -12,7 +12,7 @@ def chain_error(value):
     if not isinstance(value, tuple) or len(value) != 4:
         return "form"
     signs, start, steps, tells = value
-    if not _are_signs(signs):
+    if not are_signs(signs):
         return "signs"
     if not _is_line(start) or len(start) > MAX_STATES:
         return "start"
@@ -22,7 +22,8 @@ def chain_error(value):
     return error
 
 
-def _are_signs(value):
+def are_signs(value):
+    """Whether value is a string of signs that a chain can tell."""
     if not isinstance(value, str) or not 1 <= len(value) <= MAX_SIGNS:
         return False
     if not all(["a" <= sign <= "z" for sign in value]):
