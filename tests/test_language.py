@@ -56,6 +56,42 @@ def own_methods(trees):
     return found
 
 
+def property_names(trees):
+    """The names of all properties of the package: beside a star they are no plain attributes."""
+    found = set()
+    for tree in trees:
+        for node in ast.walk(tree):
+            if isinstance(node, ast.FunctionDef) and node.decorator_list:
+                found.add(node.name)
+    return found
+
+
+def is_told(node, properties):
+    """Whether this is a name, an attribute off a name, a literal, or a list, tuple or dict of these."""
+    if isinstance(node, ast.Attribute):
+        return isinstance(node.value, ast.Name) and node.attr not in properties
+    if isinstance(node, (ast.List, ast.Tuple)):
+        return all(is_told(item, properties) for item in node.elts)
+    if isinstance(node, ast.Dict):
+        return all(key is not None and is_told(key, properties) for key in node.keys) and all(
+            is_told(item, properties) for item in node.values)
+    return isinstance(node, (ast.Name, ast.Constant))
+
+
+def star_fault(call, properties):
+    """Whether a call has behind a star, or behind or beside a double one, what L7 does not list there."""
+    stars = [at for at, item in enumerate(call.args) if isinstance(item, ast.Starred)]
+    doubles = [word for word in call.keywords if word.arg is None]
+    if doubles and (len(call.keywords) > 1 or not isinstance(doubles[0].value, (ast.Name, ast.Attribute))):
+        return True
+    told = [word.value for word in doubles]
+    if stars or doubles:
+        told += call.args[0 if doubles else stars[0]:]
+        told += [word.value for word in call.keywords]
+    told = [item.value if isinstance(item, ast.Starred) else item for item in told]
+    return not all(is_told(item, properties) for item in told)
+
+
 class Language(unittest.TestCase):
     def trees(self):
         for path in FILES:
@@ -121,6 +157,25 @@ class Language(unittest.TestCase):
                 self.assertIn(node.id, BUILTINS, place)
             if isinstance(node, ast.Call) and isinstance(node.func, ast.Attribute):
                 self.assertIn(node.func.attr, METHODS | own, place)
+
+    def test_stars_in_calls(self):
+        properties = property_names([tree for _, tree in self.trees()])
+        for place, node in self.nodes():
+            if isinstance(node, ast.Call):
+                self.assertFalse(star_fault(node, properties), place)
+
+    def test_stars_are_seen(self):
+        for text, wanted in (
+            ("f(*xs)", False), ("f(k[0], *xs)", False), ("f(*xs, n, sep=n)", False), ("f(*[a, (b.c, 1)], {1: a})", False),
+            ("f(k, **d)", False), ("f(*box.rows, **box.more)", False), ("f(k[0], sep=g(1))", False), ("f()", False),
+            ("zip(*even[2])", True), ("f(*g(xs))", True), ("f(*xs[1:])", True), ("f(*(xs + ys))", True),
+            ("f(*[x for x in xs])", True), ("f(*a.b.c)", True), ("f(*box.many)", True), ("f(*[xs[0]])", True),
+            ("f(*xs, ys[0])", True), ("f(*xs, sep=ys[0])", True), ("f(*{1: g(2)})", True), ("f(*[*xs, g(1)])", True),
+            ("f(k[0], **d)", True), ("f(**d[0])", True), ("f(**d, **e)", True), ("f(a=1, **d)", True),
+            ("f(**{'a': 1})", True), ("f(**box.many)", True), ("f(**a.b.c)", True), ("f(*f'{x}')", True),
+        ):
+            call = ast.parse(text).body[0].value
+            self.assertEqual(star_fault(call, {"many"}), wanted, text)
 
 
 if __name__ == "__main__":

@@ -137,6 +137,7 @@ def best_taken(chain, machine, view):
     if view == "" and stand not in machine[3]:
         raise Never()
     parts = even[1]
+    steps = even[2]
     row = ""
     for seen, ways in zip(view, _behind(even, machine, view, _greatest)):
         places = _places(even, seen)
@@ -148,7 +149,7 @@ def best_taken(chain, machine, view):
         least = worths.index(max(worths))
         row = row + even[0][places[least]]
         stand = machine[2][stand][places[least]]
-        parts = [max(met(told[least], column)) for column in zip(*even[2])]
+        parts = [max(met(told[least], column)) for column in zip(*steps)]
     course, share = best_course(chain, row)
     return (row, course, share)
 
