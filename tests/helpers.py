@@ -11,6 +11,23 @@ NOT_STRINGS = [
 ]
 
 
+
+def deep(kind, turns=19):
+    """A value nested so many turns deep."""
+    value = kind()
+    for _ in range(turns):
+        value = {"a": value} if kind is dict else kind([value])
+    return value
+
+
+# Of all kinds, and none of them a pair, a tuple of tuples or a tuple of pairs that fits anything in the tests.
+VALUES = NOT_STRINGS + [
+    "", "form", "a\nb", "0", "a" * 20000, ((),), ((), ()), (True,), (None,), ("",), ((0, 1), None), ([0], [1]), [(0,), (1,)],
+    (((),),), (0, 0), (-1,), (10 ** 399,), ((True,),), ((False, True),), (-(10 ** 399), 1), (0,) * 4000, ((0,) * 3999,),
+    ({},), ({0: 1},), deep(tuple), deep(list), deep(dict),
+]
+
+
 def same(one, other):
     """Whether both are alike, kind by kind: True is not 1 here."""
     if type(one) is not type(other):

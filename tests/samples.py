@@ -2,6 +2,7 @@
 
 import fractions
 import itertools
+import math
 import random
 
 WORN = ("ab", (1, 1), ((1, 1), (0, 1)), ((1, 0), (1, 3)))
@@ -77,6 +78,57 @@ def multiplied(chain):
 
     signs, start, steps, tells = chain
     return (signs, by_next(start), tuple(map(by_next, steps)), tuple(map(by_next, tells)))
+
+
+def parted(chain, state):
+    """The same chain with one state parted in two that tell alike."""
+    signs, start, steps, tells = chain
+
+    def line_of(weights):
+        doubled = [3 * weight for weight in weights]
+        doubled[state:state + 1] = [2 * weights[state], weights[state]]
+        return tuple(doubled)
+
+    lines = [line_of(line) for line in steps]
+    return (signs, line_of(start), tuple(lines[:state + 1] + lines[state:]), tells[:state + 1] + tells[state:])
+
+
+def moved(chain, order):
+    """The same chain with its states in another order."""
+    signs, start, steps, tells = chain
+    return (signs, tuple(start[at] for at in order), tuple(tuple(steps[at][to] for to in order) for at in order),
+            tuple(tells[at] for at in order))
+
+
+def split(source, chain, sizes):
+    """A chain whose state k is so many states that tell alike, and go alike to those of each other one. And its parts.
+
+    How the states of a part share what comes to them is another thing at each line.
+    """
+    signs, start, steps, tells = chain
+    owners = [state for state, size in enumerate(sizes) for _ in range(size)]
+    source.shuffle(owners)
+    places = {state: [at for at, owner in enumerate(owners) if owner == state] for state in owners}
+
+    def spread(weights):
+        line = [0] * len(owners)
+        drawn = {state: some_line(source, len(here), 1) for state, here in places.items()}
+        common = math.lcm(*[sum(parts) for parts in drawn.values()])
+        for state, here in places.items():
+            for at, part_ in zip(here, drawn[state]):
+                line[at] = weights[state] * part_ * (common // sum(drawn[state]))
+        return tuple(line)
+
+    lines = tuple(spread(steps[owner]) for owner in owners)
+    made = (signs, spread(start), lines, tuple(tells[owner] for owner in owners))
+    return made, tuple(sorted(tuple(here) for here in places.values()))
+
+
+def with_idle_state(chain):
+    """The same chain with a state behind all others that never comes."""
+    signs, start, steps, tells = chain
+    wide = tuple(line + (0,) for line in steps)
+    return (signs, start + (0,), wide + ((1,) * (len(start) + 1),), tells + ((1,) * len(signs),))
 
 
 def pair(worth):

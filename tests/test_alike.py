@@ -4,8 +4,8 @@ import random
 
 from helpers import NOT_STRINGS, Calls
 from samples import (
-    EVEN, FAIR, HOP, ONE, RING, SIX, STILL, TWIN, WORN, multiplied, pair, part, ratio, rows_to, small_chains, some_chain,
-    some_chains, some_view, summed,
+    EVEN, FAIR, HOP, ONE, RING, SIX, STILL, TWIN, WORN, moved, multiplied, pair, part, parted, ratio, rows_to,
+    small_chains, some_chain, some_chains, some_view, summed, with_idle_state,
 )
 
 from veiledchains.alike import account, account_error, alike, alike_by, kept_words, onward
@@ -68,33 +68,6 @@ def parting(one, other):
         if summed(one, row) != summed(other, row):
             return row
     return None
-
-
-def parted(chain, state):
-    """The same chain with one state parted in two that tell alike."""
-    signs, start, steps, tells = chain
-
-    def line_of(weights):
-        doubled = [3 * weight for weight in weights]
-        doubled[state:state + 1] = [2 * weights[state], weights[state]]
-        return tuple(doubled)
-
-    lines = [line_of(line) for line in steps]
-    return (signs, line_of(start), tuple(lines[:state + 1] + lines[state:]), tells[:state + 1] + tells[state:])
-
-
-def moved(chain, order):
-    """The same chain with its states in another order."""
-    signs, start, steps, tells = chain
-    return (signs, tuple(start[at] for at in order), tuple(tuple(steps[at][to] for to in order) for at in order),
-            tuple(tells[at] for at in order))
-
-
-def with_idle_state(chain):
-    """The same chain with a state behind all others that never comes."""
-    signs, start, steps, tells = chain
-    wide = tuple(line + (0,) for line in steps)
-    return (signs, start + (0,), wide + ((1,) * (len(start) + 1),), tells + ((1,) * len(signs),))
 
 
 def late(states, ends):

@@ -45,6 +45,15 @@ TOLD = {
         "taken_states": "chain machine view", "best_taken": "chain machine view", "ever_share": "chain machine",
         "mean_taken": "chain machine",
     },
+    "lumps": {"lump_error": "chain value", "lumped": "chain parts", "coarsest": "chain"},
+    "making": {
+        "ordered": "chain order", "slim": "chain", "mixed": "one other first second", "behind_view": "chain view",
+    },
+    "heaps": {"heap_error": "chain value", "heap_chance": "chain heap"},
+    "learning": {
+        "counts": "chain heap", "learned": "chain heap", "rests": "chain heap", "led": "chain heap turns",
+        "counted": "chain pairs", "pairs_chance": "chain pairs",
+    },
     "rows": {"rows_ahead": "chain row", "row_at": "chain length share", "never_row": "chain"},
 }
 

@@ -3,7 +3,7 @@
 from veiledchains.errors import Never
 from veiledchains.evened import evened
 from veiledchains.fractions import lowest
-from veiledchains.parts import ahead_parts, behind_parts, gone_on, met, shared, sums_ahead, sums_behind, told_lines
+from veiledchains.parts import ahead_parts, behind_parts, met, next_parts, shared, sums_ahead, sums_behind, told_lines
 
 
 def ahead_table(chain, view):
@@ -54,9 +54,5 @@ def pairs_told(chain, view):
 def told_ahead(chain, view, sign):
     """The share by which the next sign behind view is this one."""
     even = evened(chain)
-    parts = even[1]
-    if view != "":
-        parts = gone_on(ahead_parts(even, view)[-1], even[2])
-    if sum(parts) == 0:
-        raise Never()
+    parts = next_parts(even, view)
     return lowest(sum(met(parts, told_lines(even, sign)[0])), sum(parts) * sum(even[3][0]))

@@ -4,7 +4,7 @@ from math import gcd
 
 from veiledchains.bounds import MAX_SIGNS, MAX_STATES
 from veiledchains.fractions import lowest
-from veiledchains.kinds import is_whole
+from veiledchains.kinds import ascends, is_whole
 
 
 def chain_error(value):
@@ -26,9 +26,7 @@ def are_signs(value):
     """Whether value is a string of signs that a chain can tell."""
     if not isinstance(value, str) or not 1 <= len(value) <= MAX_SIGNS:
         return False
-    if not all(["a" <= sign <= "z" for sign in value]):
-        return False
-    return all([one < other for one, other in zip(value, value[1:])])
+    return all(["a" <= sign <= "z" for sign in value]) and ascends(value)
 
 
 def _is_line(value):

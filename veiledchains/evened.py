@@ -15,8 +15,9 @@ def _evened_lines(lines):
     common = 1
     for line in lines:
         common = lcm(common, sum(line))
-    return tuple([_multiplied_line(line, common // sum(line)) for line in lines])
+    return tuple([multiplied_line(line, common // sum(line)) for line in lines])
 
 
-def _multiplied_line(line, factor):
+def multiplied_line(line, factor):
+    """The line with each weight multiplied by this factor."""
     return tuple([weight * factor for weight in line])

@@ -17,6 +17,14 @@ def integer_text(number):
     return "".join(blocks[::-1])
 
 
+def is_great(number):
+    """Whether this integer has more than MAX_FIGURES figures."""
+    bound = 1
+    for _ in range(MAX_FIGURES):
+        bound = bound * 10
+    return abs(number) >= bound
+
+
 def is_natural_text(text):
     """Whether this string is the text of an integer from 0 on, of at most MAX_FIGURES figures."""
     if not text.isascii() or not text.isdigit() or len(text) > MAX_FIGURES:

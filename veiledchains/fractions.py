@@ -31,6 +31,16 @@ def divided(one, other):
     return lowest(one[0] * other[1], one[1] * other[0])
 
 
+def all_multiplied(items):
+    """The product of these fractions."""
+    above = 1
+    below = 1
+    for item in items:
+        above = above * item[0]
+        below = below * item[1]
+    return lowest(above, below)
+
+
 def compared(one, other):
     """-1, 0 or 1, as one is less than, equal to, or greater than other."""
     left = one[0] * other[1]

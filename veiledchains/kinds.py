@@ -13,3 +13,13 @@ def is_fraction(value):
     if not isinstance(value, tuple) or len(value) != 2:
         return False
     return is_whole(value[0]) and is_whole(value[1]) and value[1] > 0 and gcd(value[0], value[1]) == 1
+
+
+def is_share(value):
+    """Whether value is a fraction from 0 to 1."""
+    return is_fraction(value) and 0 <= value[0] <= value[1]
+
+
+def ascends(items):
+    """Whether each item is greater than the one ahead."""
+    return all([one < other for one, other in zip(items, items[1:])])

@@ -3,7 +3,7 @@
 from veiledchains.bounds import MAX_STANDS
 from veiledchains.chains import are_signs
 from veiledchains.errors import TooMany, Unfit
-from veiledchains.kinds import is_whole
+from veiledchains.kinds import ascends, is_whole
 
 
 def machine_error(value):
@@ -20,7 +20,7 @@ def machine_error(value):
             return ("steps", stand)
     if not _are_stands((begin,), len(steps)):
         return "begin"
-    if not _are_stands(ends, len(steps)) or not all([one < other for one, other in zip(ends, ends[1:])]):
+    if not _are_stands(ends, len(steps)) or not ascends(ends):
         return "ends"
     return None
 

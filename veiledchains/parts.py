@@ -3,6 +3,7 @@
 Even lines have one sum: so at each place all parts have one denominator, and only the end needs a common divisor.
 """
 
+from veiledchains.errors import Never
 from veiledchains.fractions import lowest
 from veiledchains.views import GAP
 
@@ -44,6 +45,20 @@ def ahead_parts(even, view):
             parts = gone_on(table[-1], even[2])
         table.append(met(parts, line))
     return table
+
+
+def last_parts(even, view):
+    """By the state at the last place of view, the sum over all courses; by the first state for the empty view."""
+    parts = even[1] if view == "" else ahead_parts(even, view)[-1]
+    if sum(parts) == 0:
+        raise Never()
+    return parts
+
+
+def next_parts(even, view):
+    """By the state behind view, the sum over all courses."""
+    parts = last_parts(even, view)
+    return parts if view == "" else gone_on(parts, even[2])
 
 
 def sums_ahead(even, view):

@@ -4,6 +4,7 @@ from veiledchains.errors import Unfit
 from veiledchains.evened import evened
 from veiledchains.fractions import lowest
 from veiledchains.parts import gone_on, met, told_lines, whole
+from veiledchains.reach import led_to
 
 
 def rows_ahead(chain, row):
@@ -60,7 +61,7 @@ def never_row(chain):
     """The least string of signs whose chance is 0; None if there is none."""
     signs, start, steps, tells = chain
     # What can still come hangs on the states alone where the chain can be: the least row to each such lot is enough.
-    rows = [("", _led_to([start]))]
+    rows = [("", led_to([start]))]
     seen = {rows[0][1]: True}
     at = 0
     while at < len(rows):
@@ -69,14 +70,9 @@ def never_row(chain):
             tellers = [state for state in states if tells[state][place] > 0]
             if not tellers:
                 return row + sign
-            lot = _led_to([steps[state] for state in tellers])
+            lot = led_to([steps[state] for state in tellers])
             if lot not in seen:
                 seen[lot] = True
                 rows.append((row + sign, lot))
         at = at + 1
     return None
-
-
-def _led_to(lines):
-    """The states to which some of these lines of weights lead, ascending."""
-    return tuple([state for state in range(len(lines[0])) if any([line[state] > 0 for line in lines])])
