@@ -54,8 +54,28 @@ TOLD = {
         "counts": "chain heap", "learned": "chain heap", "rests": "chain heap", "led": "chain heap turns",
         "counted": "chain pairs", "pairs_chance": "chain pairs",
     },
+    "longrun": {
+        "homes": "chain", "home_shares": "chain", "beat_shares": "chain beat", "stays": "chain", "long_shares": "chain",
+        "long_signs": "chain", "mean_return": "chain state", "long_paper": "chain", "long_holds": "chain value",
+    },
+    "odds": {
+        "told_by": "one other first second view", "test_error": "one length value", "slips": "one other test length",
+        "best_test": "one other first second length", "least_slip": "one other first second length",
+        "sharpest": "one other length most", "apart_by": "one other length",
+    },
+    "desks": {"desk_behind": "chain log"},
     "rows": {"rows_ahead": "chain row", "row_at": "chain length share", "never_row": "chain"},
 }
+
+CLASSES = {
+    "desks": {"Desk": {
+        "__init__": "self chain", "copy": "self", "put": "self view", "take": "self chain", "learn": "self heap",
+        "forget": "self", "undo": "self", "chance": "self", "states": "self", "coming": "self", "best": "self",
+        "ranked": "self number", "__eq__": "self other",
+    }},
+    "shells": {"Shell": {"__init__": "self", "say": "self line"}},
+}
+PROPERTIES = {"Desk": ("chain", "view", "log", "version")}
 
 
 class Interface(unittest.TestCase):
@@ -70,6 +90,32 @@ class Interface(unittest.TestCase):
                 self.assertEqual([one.name for one in parameters], arguments.split(), function)
                 self.assertEqual({one.kind for one in parameters}, {inspect.Parameter.POSITIONAL_OR_KEYWORD}, function)
                 self.assertEqual({one.default for one in parameters}, {inspect.Parameter.empty}, function)
+
+    def test_classes(self):
+        for name, classes in CLASSES.items():
+            module = importlib.import_module("veiledchains." + name)
+            for kind, methods in classes.items():
+                found = getattr(module, kind)
+                self.assertTrue(inspect.isclass(found), kind)
+                self.assertEqual(found.__module__, module.__name__, kind)
+                for method, arguments in methods.items():
+                    # In the body of the class itself.
+                    function = vars(found)[method]
+                    self.assertTrue(inspect.isfunction(function), method)
+                    parameters = inspect.signature(function).parameters.values()
+                    self.assertEqual([one.name for one in parameters], arguments.split(), method)
+                    self.assertEqual({one.default for one in parameters}, {inspect.Parameter.empty}, method)
+                for word in PROPERTIES.get(kind, ()):
+                    self.assertIsInstance(vars(found)[word], property, word)
+                    self.assertIsNone(vars(found)[word].fset, word)
+
+    def test_nothing_is_left_out(self):
+        """All names of the document's interface are looked at here, or in the tests of bounds and errors."""
+        self.assertEqual(sum(map(len, TOLD.values())), 91)
+        self.assertEqual(set(TOLD) | set(CLASSES) | {"bounds", "errors"}, {
+            "bounds", "errors", "fractions", "chains", "chaintexts", "views", "courses", "along", "best", "prices", "rows",
+            "words", "alike", "lumps", "making", "heaps", "learning", "longrun", "odds", "machines", "worlds", "desks", "shells",
+        })
 
 
 if __name__ == "__main__":

@@ -5,22 +5,26 @@ import builtins
 import pathlib
 import unittest
 
+from veiledchains import errors
+
 PACKAGE = pathlib.Path(__file__).resolve().parent.parent / "veiledchains"
 FILES = sorted(path for path in PACKAGE.rglob("*") if path.is_file() and "__pycache__" not in path.parts)
 LIBRARY = {"math": {"gcd", "lcm", "isqrt", "comb", "perm", "factorial"}}
 BUILTINS = set(
     "len range enumerate zip min max sum abs sorted reversed int str bool list tuple dict set isinstance ord any all "
-    "divmod ValueError".split()
+    "divmod ValueError property".split()
 )
 METHODS = set(
     "append clear copy count endswith extend find get index insert isalnum isalpha isascii isdigit islower isspace "
     "isupper items join keys ljust lower lstrip partition pop remove replace reverse rfind rjust rpartition rsplit "
-    "rstrip setdefault split splitlines startswith strip update upper values zfill bit_length __init__".split()
+    "removeprefix removesuffix rstrip setdefault split splitlines startswith strip update upper values zfill bit_length "
+    "__init__".split()
 )
 STATEMENTS = (
     ast.FunctionDef, ast.ClassDef, ast.Assign, ast.AugAssign, ast.If, ast.While, ast.For, ast.Return, ast.Raise,
-    ast.ImportFrom, ast.Expr, ast.Pass, ast.Break, ast.Continue,
+    ast.ImportFrom, ast.Expr, ast.Pass, ast.Break, ast.Continue, ast.Try,
 )
+DOUBLE_UNDERSCORES = {"__init__", "__eq__"}
 
 
 def bound_names(node):
@@ -45,13 +49,13 @@ def module_names(tree):
 
 
 def own_methods(trees):
-    """The names of the package's own methods; none of them may be one of builtin values."""
+    """The names of the package's own methods; of those of builtin values only those of the rule's list may be among them."""
     found = set()
     for tree in trees:
         for node in tree.body:
             if isinstance(node, ast.ClassDef):
                 found |= {one.name for one in node.body if isinstance(one, ast.FunctionDef)}
-    builtin = {name for kind in (str, int, list, dict, set, bytes, tuple) for name in dir(kind)} - {"__init__"}
+    builtin = {name for kind in (str, int, list, dict, set, bytes, tuple) for name in dir(kind)} - METHODS - DOUBLE_UNDERSCORES
     assert not found & builtin, found & builtin
     return found
 
@@ -115,7 +119,7 @@ class Language(unittest.TestCase):
         for place, node in self.nodes():
             if isinstance(node, ast.FunctionDef):
                 self.assertLessEqual(node.end_lineno - node.lineno + 1, 40, place)
-                self.assertEqual(node.decorator_list, [], place)
+                self.assertLessEqual({ast.unparse(one) for one in node.decorator_list}, {"property"}, place)
 
     def test_imports(self):
         defined = {path.stem: module_names(tree) for path, tree in self.trees()}
@@ -157,6 +161,54 @@ class Language(unittest.TestCase):
                 self.assertIn(node.id, BUILTINS, place)
             if isinstance(node, ast.Call) and isinstance(node.func, ast.Attribute):
                 self.assertIn(node.func.attr, METHODS | own, place)
+
+    def test_properties(self):
+        """None has the name of a method, of an attribute that is stored, or of a method of a builtin value."""
+        names = property_names([tree for _, tree in self.trees()])
+        self.assertEqual(names, {"chain", "view", "log", "version"})
+        self.assertFalse(names & {name for kind in (str, int, list, dict, set, bytes, tuple) for name in dir(kind)})
+        for place, node in self.nodes():
+            if isinstance(node, ast.Attribute) and isinstance(node.ctx, ast.Store):
+                self.assertNotIn(node.attr, names, place)
+            if isinstance(node, ast.Call) and isinstance(node.func, ast.Attribute):
+                self.assertNotIn(node.func.attr, names, place)
+
+    def test_forms_that_are_barred(self):
+        for place, node in self.nodes():
+            # A class has an __eq__: so any, all, sum and the like take lists.
+            self.assertNotIsInstance(node, (ast.GeneratorExp, ast.Set, ast.SetComp, ast.Delete, ast.Assert, ast.Lambda), place)
+            if isinstance(node, ast.Compare):
+                for sign, right in zip(node.ops, node.comparators):
+                    if isinstance(sign, (ast.Is, ast.IsNot)):
+                        self.assertIn(ast.unparse(right), ("None", "True", "False"), place)
+            if isinstance(node, ast.BinOp) and isinstance(node.op, ast.Pow):
+                self.assertIsInstance(node.right, ast.Constant, place)
+                self.assertLessEqual(node.right.value, 64, place)
+            if isinstance(node, ast.Constant) and isinstance(node.value, str):
+                self.assertNotIn("%", node.value, place)
+            if isinstance(node, ast.ExceptHandler):
+                self.assertIn(ast.unparse(node.type), [name for name in vars(errors) if name[0].isupper()], place)
+                self.assertIsNone(node.name, place)
+            if isinstance(node, ast.Raise) and node.exc is not None:
+                self.assertIsInstance(node.exc, ast.Call, place)
+
+    def test_sets_are_asked_at_once(self):
+        for path, tree in self.trees():
+            inner = [ast.unparse(node.args[0]) for node in ast.walk(tree) if isinstance(node, ast.Call) and node.args
+                     and isinstance(node.func, ast.Name) and node.func.id in ("sorted", "len")]
+            for node in ast.walk(tree):
+                if isinstance(node, ast.Call) and isinstance(node.func, ast.Name) and node.func.id == "set":
+                    self.assertIn(ast.unparse(node), inner, path)
+
+    def test_no_two_files_import_from_each_other(self):
+        imports = {}
+        for path, tree in self.trees():
+            imports[path.stem] = {node.module.partition(".")[2] for node in ast.walk(tree) if isinstance(node, ast.ImportFrom)} - {""}
+        done = set()
+        while len(done) < len(imports):
+            ready = {name for name in imports if name not in done and imports[name] <= done}
+            self.assertTrue(ready, sorted(set(imports) - done))
+            done |= ready
 
     def test_stars_in_calls(self):
         properties = property_names([tree for _, tree in self.trees()])

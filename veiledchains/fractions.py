@@ -21,6 +21,19 @@ def added(one, other):
     return lowest(one[0] * other[1] + other[0] * one[1], one[1] * other[1])
 
 
+def all_added(items):
+    """The sum of these fractions."""
+    total = (0, 1)
+    for item in items:
+        total = added(total, item)
+    return total
+
+
+def subtracted(one, other):
+    """The fraction one - other."""
+    return added(one, (-other[0], other[1]))
+
+
 def multiplied(one, other):
     """The fraction one * other."""
     return lowest(one[0] * other[0], one[1] * other[1])

@@ -10,7 +10,9 @@ def lump_error(chain, value):
     if not _are_parts(len(chain[1]), value):
         return "form"
     # Lines of one sum: there shares are alike just where weights are.
-    _, _, steps, tells = evened(chain)
+    even = evened(chain)
+    steps = even[2]
+    tells = even[3]
     for part, states in enumerate(value):
         if not _are_alike([tells[state] for state in states]):
             return ("tells", part)
@@ -60,7 +62,9 @@ def lumped(chain, parts):
 
 def coarsest(chain):
     """The fewest parts of chain that keep."""
-    _, _, steps, tells = evened(chain)
+    even = evened(chain)
+    steps = even[2]
+    tells = even[3]
     parts = _parts_by(tells)
     many = 0
     # Parts that tell alike are parted further by where they go, until nothing more is parted.

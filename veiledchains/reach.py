@@ -19,3 +19,14 @@ def reached(steps, states):
 def coming(chain):
     """The states that come, ascending."""
     return reached(chain[2], led_to([chain[1]]))
+
+
+def home_lots(chain):
+    """The states of each home, ascending, and so the homes."""
+    steps = chain[2]
+    lots = []
+    for state in coming(chain):
+        lot = reached(steps, led_to([steps[state]]))
+        if lot not in lots and all([state in reached(steps, led_to([steps[other]])) for other in lot]):
+            lots.append(lot)
+    return lots

@@ -5,7 +5,7 @@ from veiledchains.chains import plain, start_share
 from veiledchains.equations import solution
 from veiledchains.errors import Never, Unfit
 from veiledchains.evened import evened
-from veiledchains.fractions import added, lowest, multiplied
+from veiledchains.fractions import all_added, lowest, multiplied
 from veiledchains.parts import gone_on, met, shared, told_lines
 from veiledchains.stands import hopeful_pairs, is_sure, led_pairs, reached_pairs, whole_weight
 from veiledchains.views import GAP
@@ -183,11 +183,8 @@ def _equations(chain, machine, pairs, added_parts):
 
 def _begun_mean(chain, machine, pairs, worths):
     """The mean of what the pairs have in which the chain begins; pairs that are not told have nought."""
-    total = (0, 1)
-    for pair, worth in zip(pairs, worths):
-        if pair[1] == machine[1]:
-            total = added(total, multiplied(start_share(chain, pair[0]), worth))
-    return total
+    begun = [(pair[0], worth) for pair, worth in zip(pairs, worths) if pair[1] == machine[1]]
+    return all_added([multiplied(start_share(chain, state), worth) for state, worth in begun])
 
 
 def mean_taken(chain, machine):
