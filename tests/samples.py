@@ -15,6 +15,14 @@ EVEN = ("ab", (1, 1), ((1, 1), (1, 1)), ((3, 1), (3, 1)))
 STILL = ("ab", (1,), ((1,),), ((1, 0),))
 HOP = ("ab", (1, 1), ((1, 1), (1, 0)), ((1, 0), (0, 1)))
 SIX = ("abcde", (1,) * 6, ((1, 2, 3, 4, 5, 6),) * 6, ((5, 4, 3, 2, 1),) * 6)
+CIRCLE = ("ab", (1, 0), ((0, 1), (1, 0)), ((1, 0), (0, 1)))
+FORK = ("ab", (1, 0, 0), ((1, 1, 2), (0, 1, 0), (0, 0, 1)), ((1, 1), (1, 0), (0, 1)))
+# From 0 to 1 or 2; 1 goes back to 0 or home to 3; 2 goes home to 4 or to 5.
+PARTING = ("a", (1, 0, 0, 0, 0, 0), (
+    (0, 1, 1, 0, 0, 0), (1, 0, 0, 2, 0, 0), (0, 0, 0, 0, 1, 3), (0, 0, 0, 1, 0, 0), (0, 0, 0, 0, 1, 0), (0, 0, 0, 0, 0, 1),
+), ((1,),) * 6)
+# A heap of views of chains that tell a and b.
+TWO = (("a", 1), ("b", 1))
 
 
 def some_line(source, width, figures):
@@ -211,6 +219,18 @@ def short_views(chain, longest):
 
 def some_view(source, chain, length, gaps=1):
     return "".join(source.choice(chain[0] + "." * gaps) for _ in range(length))
+
+
+def some_heap(source, chain, views, signs):
+    """So many views, with at most so many signs each, of at most 120 signs together."""
+    heap = []
+    left = 120
+    for _ in range(views):
+        view = some_view(source, chain, source.randrange(min(signs, left) + 1))
+        times = source.randrange(1, min(20, left // len(view) if view else 20) + 1)
+        left -= times * len(view)
+        heap.append((view, times))
+    return tuple(heap)
 
 
 def solved(equations):

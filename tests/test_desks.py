@@ -3,10 +3,9 @@ import random
 
 from helpers import VALUES, Calls, same, shown
 from samples import (
-    EVEN, FAIR, GREAT, HOP, ONE, RING, SIX, STILL, TWIN, WORN, multiplied, ratio, small_chains, some_chain, some_view,
-    some_chains,
+    EVEN, FAIR, GREAT, HOP, ONE, RING, SIX, STILL, TWIN, TWO, WORN, multiplied, ratio, small_chains, some_chain,
+    some_chains, some_heap, some_view,
 )
-from test_heaps import TWO, some_heap
 
 from veiledchains.along import states_told, told_ahead
 from veiledchains.best import best_course, ranked
@@ -204,9 +203,7 @@ class Put(Desks):
                 self.makes(desk, "put", view, WORN, ahead + view)
 
     def test_unfit(self):
-        for value in VALUES + ["", "c", "ac", "a b", "A", "a,", "ab\n", " ", "a" * 41, "c" * 41, ("a",), ["a"], b"a"]:
-            if isinstance(value, bytes):
-                continue
+        for value in VALUES + ["", "c", "ac", "a b", "A", "a,", "ab\n", " ", "a" * 41, "c" * 41, ("a",), ["a"]]:
             for desk in (Desk(WORN), behind(WORN, ("put", "ab"))):
                 self.refuses_edit(Unfit(), desk, "put", value)
         self.refuses_edit(Unfit(), Desk(STILL), "put", "")

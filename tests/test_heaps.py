@@ -4,28 +4,15 @@ import random
 
 from helpers import VALUES, Calls
 from samples import (
-    FAIR, HOP, ONE, RING, SIX, STILL, TWIN, WORN, multiplied, pair, short_views, small_chains, some_chain, some_chains,
-    some_view, summed,
+    FAIR, HOP, ONE, RING, SIX, STILL, TWIN, TWO, WORN, multiplied, pair, short_views, small_chains, some_chain, some_chains,
+    some_heap, summed,
 )
 
 from veiledchains.chains import plain
 from veiledchains.errors import Unfit
 from veiledchains.heaps import heap_chance, heap_error
 
-TWO = (("a", 1), ("b", 1))
 SMALL = small_chains()
-
-
-def some_heap(source, chain, views, signs):
-    """So many views, with at most so many signs each, of at most 120 signs together."""
-    heap = []
-    left = 120
-    for _ in range(views):
-        view = some_view(source, chain, source.randrange(min(signs, left) + 1))
-        times = source.randrange(1, min(20, left // len(view) if view else 20) + 1)
-        left -= times * len(view)
-        heap.append((view, times))
-    return tuple(heap)
 
 
 class HeapErrors(Calls):

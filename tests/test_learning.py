@@ -4,10 +4,9 @@ import random
 
 from helpers import Calls
 from samples import (
-    EVEN, FAIR, GREAT, HOP, ONE, RING, SIX, STILL, TWIN, WORN, ahead_worths, behind_worths, courses, multiplied, pair, part,
-    ratio, small_chains, some_chain, some_chains, some_line, some_view, told_part, weighed, with_idle_state,
+    EVEN, FAIR, GREAT, HOP, ONE, RING, SIX, STILL, TWIN, TWO, WORN, ahead_worths, behind_worths, courses, multiplied, pair,
+    part, ratio, small_chains, some_chain, some_chains, some_heap, some_line, some_view, told_part, weighed, with_idle_state,
 )
-from test_heaps import TWO, some_heap
 
 from veiledchains.chains import chain_error, plain
 from veiledchains.courses import possible_count

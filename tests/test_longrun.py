@@ -5,8 +5,8 @@ import random
 
 from helpers import VALUES, Calls
 from samples import (
-    EVEN, FAIR, GREAT, HOP, ONE, RING, SIX, STILL, TWIN, WORN, moved, multiplied, pair, part, parted, ratio, small_chains,
-    solved, some_chain, some_chains, with_idle_state,
+    CIRCLE, EVEN, FAIR, FORK, GREAT, HOP, ONE, PARTING, RING, SIX, STILL, TWIN, WORN, moved, multiplied, pair, part, parted,
+    ratio, small_chains, solved, some_chain, some_chains, with_idle_state,
 )
 
 from veiledchains.chains import plain
@@ -14,13 +14,7 @@ from veiledchains.longrun import (
     beat_shares, home_shares, homes, long_holds, long_paper, long_shares, long_signs, mean_return, stays,
 )
 
-CIRCLE = ("ab", (1, 0), ((0, 1), (1, 0)), ((1, 0), (0, 1)))
-FORK = ("ab", (1, 0, 0), ((1, 1, 2), (0, 1, 0), (0, 0, 1)), ((1, 1), (1, 0), (0, 1)))
 SIDE = ("a", (1, 0), ((1, 0), (1, 1)), ((1,), (1,)))
-# From 0 to 1 or 2; 1 goes back to 0 or home to 3; 2 goes home to 4 or to 5.
-PARTING = ("a", (1, 0, 0, 0, 0, 0), (
-    (0, 1, 1, 0, 0, 0), (1, 0, 0, 2, 0, 0), (0, 0, 0, 0, 1, 3), (0, 0, 0, 1, 0, 0), (0, 0, 0, 0, 1, 0), (0, 0, 0, 0, 0, 1),
-), ((1,),) * 6)
 FRACTION = fractions.Fraction
 SMALL = small_chains()
 

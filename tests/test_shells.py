@@ -4,10 +4,9 @@ import re
 
 from helpers import VALUES, Calls, shown
 from samples import (
-    EVEN, FAIR, GREAT, HOP, ONE, RING, SIX, STILL, TWIN, WORN, multiplied, ratio, small_chains, some_chain, some_chains,
-    some_view, with_idle_state,
+    CIRCLE, EVEN, FAIR, FORK, GREAT, HOP, ONE, PARTING, RING, SIX, STILL, TWIN, WORN, multiplied, ratio, small_chains,
+    some_chain, some_chains, some_view, with_idle_state,
 )
-from test_longrun import CIRCLE, FORK, PARTING
 
 from veiledchains.alike import alike
 from veiledchains.chaintexts import chain_text
