@@ -192,6 +192,23 @@ class Language(unittest.TestCase):
             if isinstance(node, ast.Raise) and node.exc is not None:
                 self.assertIsInstance(node.exc, ast.Call, place)
 
+    def test_barred_words(self):
+        barred = set(
+            "register mro elements open input law version_info with_traceback add_note attrgetter breakpoint builtins compile "
+            "copyright credits delattr dir eval exec exit gc getattr globals hasattr help id importlib license locals "
+            "methodcaller os quit setattr super type vars sys typing enum Enum Flag Generic Protocol ABC namedtuple".split())
+        for place, node in self.nodes():
+            names = bound_names(node)
+            if isinstance(node, ast.Name):
+                names = [node.id]
+            if isinstance(node, ast.Attribute):
+                names = [node.attr]
+            if isinstance(node, ast.Constant) and isinstance(node.value, str):
+                names = [node.value]
+            self.assertFalse(barred & set(names), place)
+            for name in names:
+                self.assertFalse(name.startswith("__") and name not in DOUBLE_UNDERSCORES, place)
+
     def test_sets_are_asked_at_once(self):
         for path, tree in self.trees():
             inner = [ast.unparse(node.args[0]) for node in ast.walk(tree) if isinstance(node, ast.Call) and node.args
