@@ -3,8 +3,8 @@ import random
 
 from helpers import VALUES, Calls, same, shown
 from samples import (
-    EVEN, FAIR, GREAT, HOP, ONE, RING, SIX, STILL, TWIN, TWO, WORN, multiplied, ratio, small_chains, some_chain,
-    some_chains, some_heap, some_view,
+    EVEN, FAIR, GREAT, HOP, ONE, RING, SIX, STILL, TWIN, TWO, WORN, multiplied, parted, ratio, small_chains, some_chain,
+    some_chains, some_heap, some_view, with_idle_state,
 )
 
 from veiledchains.along import states_told, told_ahead
@@ -563,6 +563,17 @@ class WhatHolds(Desks):
             self.assertTrue(same(stand(made), stand(desk)))
             self.assertTrue(made == desk)
         self.assertGreater(refused, 40)
+
+    def test_twins_and_states_that_never_come(self):
+        source = random.Random(207)
+        for chain in small_chains()[::2]:
+            view = some_view(source, chain, 3, 2)
+            if possible_count(chain, view):
+                first = behind(chain, ("put", view))
+                for other in (parted(chain, 0), with_idle_state(chain), multiplied(chain)):
+                    desk = behind(other, ("put", view))
+                    self.assertTrue(same((desk.chance(), desk.coming()), (first.chance(), first.coming())))
+                    self.assertNotEqual(desk, first)
 
     def test_desks_beside_each_other(self):
         one, other = Desk(WORN), Desk(FAIR)

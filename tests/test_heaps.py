@@ -4,8 +4,8 @@ import random
 
 from helpers import VALUES, Calls
 from samples import (
-    FAIR, HOP, ONE, RING, SIX, STILL, TWIN, TWO, WORN, multiplied, pair, short_views, small_chains, some_chain, some_chains,
-    some_heap, summed,
+    FAIR, HOP, ONE, RING, SIX, STILL, TWIN, TWO, WORN, multiplied, pair, parted, short_views, small_chains, some_chain,
+    some_chains, some_heap, summed, with_idle_state,
 )
 
 from veiledchains.chains import plain
@@ -146,6 +146,13 @@ class HeapChance(Calls):
         for order in itertools.permutations(heap):
             self.assertEqual(heap_chance(TWIN, order), heap_chance(TWIN, heap))
         self.assertEqual(heap_chance(TWIN, (("ab", 1), ("ab", 1))), heap_chance(TWIN, (("ab", 2),)))
+
+    def test_twins_and_states_that_never_come(self):
+        source = random.Random(143)
+        for chain in SMALL:
+            heap = some_heap(source, chain, 4, 5)
+            for other in (parted(chain, 0), parted(chain, len(chain[1]) - 1), with_idle_state(chain), multiplied(chain)):
+                self.tells(heap_chance(chain, heap), heap_chance, chain=other, heap=heap)
 
     def test_great_weights(self):
         chain = some_chain(random.Random(142), 3, 2, 400)
